@@ -1,0 +1,1 @@
+"""Prices that a cart keeps from an earlier moment."""
