@@ -1,5 +1,7 @@
 """A cart at a shop, and what one deed makes of it. Lines and carts are never changed; a deed makes new ones."""
 
+from lastshown.rules import carried_out
+
 PAID = ("pay", True)
 FAILED = ("pay", False)
 
@@ -32,26 +34,10 @@ def opened(prices):
     return Cart(dict(prices), [], False)
 
 
-def carried_out(rule, price, line):
+def behind(rule, price, line):
     """The line behind a rule, at the shop's price of its item, and how often the person was asked."""
-    kept = line.kept
-    shown = line.shown
-    highest = line.highest
-    asks = 0
-    for action in rule:
-        if action == "take":
-            kept = price
-        elif action == "least":
-            kept = min(kept, price)
-        elif action == "last":
-            kept = kept if shown is None else shown
-        else:
-            # An ask that is not needed shows what was last shown, which changes nothing.
-            if action == "ask" and kept != shown:
-                asks += 1
-            shown = kept
-            highest = max(highest, kept)
-    return Line(line.item, line.number, kept, shown, highest), asks
+    kept, shown, highest, asks = carried_out(rule, price, line.kept, line.shown)
+    return Line(line.item, line.number, kept, shown, max(line.highest, highest)), asks
 
 
 def wrongs(line):
@@ -115,8 +101,8 @@ def ruled(book, cart, deed):
     asked = []
     for line in rows_ahead(cart, deed):
         if is_ruled(deed, line):
-            behind, asks = carried_out(rule, cart.prices[line.item], line)
-            rows.append(behind)
+            other, asks = behind(rule, cart.prices[line.item], line)
+            rows.append(other)
             asked.extend([line.item] * asks)
         else:
             rows.append(line)

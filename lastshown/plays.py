@@ -29,17 +29,24 @@ def check_playable(cart, deed, index):
         raise NoLine(index)
 
 
-def stages(book, prices, deeds):
-    """A tuple for each deed: the lines behind its rule, the items asked about, the cart from then on."""
-    check_prices(prices)
-    check_deeds(deeds, 0)
+def stages_from(book, cart, deeds, first):
+    """A tuple for each deed from this cart on: the lines behind its rule, the items asked about, the cart from then on.
+
+    The first of these deeds has the index first.
+    """
     found = []
-    cart = opened(prices)
     for index, deed in enumerate(deeds):
-        check_playable(cart, deed, index)
+        check_playable(cart, deed, first + index)
         rows, asked, cart = step(book, cart, deed)
         found.append((rows, asked, cart))
     return found
+
+
+def stages(book, prices, deeds):
+    """The stages of a whole history."""
+    check_prices(prices)
+    check_deeds(deeds, 0)
+    return stages_from(book, opened(prices), deeds, 0)
 
 
 def report(deed, rows, asked):

@@ -10,114 +10,148 @@ takes no more deeds to put the item, fail to pay and look, all at one price, and
 """
 
 from lastshown.books import DOORS, MOST_ACTIONS
-from lastshown.carts import FAILED, PAID, Line, carried_out, wrongs
+from lastshown.carts import FAILED, PAID
 from lastshown.errors import NoRule, NotRight
-from lastshown.orders import in_order, places, ranks
-from lastshown.checks import HIGHEST
+from lastshown.histories import DEEDS, ITEM, PUT, told
+from lastshown.orders import HOLDINGS, settled, spots
+from lastshown.rules import carried_out
+from lastshown.searches import END, fewest
 
-ITEM = "a"
-DEEDS = (("put", "a", 1), ("look",), ("alter", "a", 1), ("back",))
+# What a line holds, by its place in HOLDINGS.
+UNSHOWN = 0
+AS_SHOWN = 1
+BELOW = 2
+ABOVE = 3
 
-
-class Standing:
-    """Where a line stands behind some deeds: the shop's price, the line, and whether the last payment failed."""
-
-    def __init__(self, price, line, failed, deeds):
-        self.price = price
-        self.line = line
-        self.failed = failed
-        self.deeds = deeds
-
-
-def key(standing):
-    """The same for all standings from which the same can go wrong."""
-    line = standing.line
-    return ranks((standing.price, line.kept, line.shown)), standing.failed
+UNBEGUN = "unbegun"
+# Where a line begins, ahead of the rule.
+BEGUN = (2, 2, None, False)
 
 
-def begun(book):
-    """The standing behind the first deed, which puts the item."""
-    # Each new price halves a distance at worst: from here there is room for 38 of them, and a shortest way has fewer,
-    # for it meets none of the at most 32 keys twice.
-    price = HIGHEST // 2
-    line, _ = carried_out(book.rule("put"), price, Line(ITEM, 1, price))
-    return Standing(price, line, False, [DEEDS[0]])
+def holding(kept, shown):
+    """What a line holds, whatever the amounts are."""
+    if shown is None:
+        return UNSHOWN
+    if kept == shown:
+        return AS_SHOWN
+    return BELOW if kept < shown else ABOVE
 
 
-def pay_rule(book, standing):
-    return book.rule("again" if standing.failed else "pay")
+class Effect:
+    """What a rule makes of what a line holds, worked out when it is first asked for."""
+
+    def __init__(self, rule):
+        self.actions = rule
+        self.known = {}
+
+    def behind(self, ahead):
+        """All that a line can hold behind the rule, for any price of the shop, by what it holds ahead of it."""
+        if ahead not in self.known:
+            held = HOLDINGS[ahead]
+            found = []
+            for price in spots(held):
+                kept, shown, _, _ = carried_out(self.actions, price, *held)
+                there = holding(kept, shown)
+                if there not in found:
+                    found.append(there)
+            self.known[ahead] = found
+        return self.known[ahead]
 
 
-def pays_wrong(book, standing):
-    """Whether a payment that is done now is a fault."""
-    line, _ = carried_out(pay_rule(book, standing), standing.price, standing.line)
-    return wrongs(line) != []
+def first_holding(rule):
+    """What a line holds behind the put with which it begins: it keeps the shop's price."""
+    kept, shown, _, _ = carried_out(rule, 2, 2, None)
+    return holding(kept, shown)
 
 
-def moved(standing, rule, deed):
-    """The standing behind a deed of the person that carries out this rule."""
-    line, _ = carried_out(rule, standing.price, standing.line)
-    return Standing(standing.price, line, deed == FAILED, [*standing.deeds, deed])
+def are_right(effects):
+    """Whether no history has a fault, by the effects of the six rules in the order of the doors.
 
-
-def repriced(standing, price):
-    deeds = [*standing.deeds, ("price", ITEM, price)]
-    return Standing(price, standing.line, standing.failed, deeds)
-
-
-def followers(book, standing):
-    """The standings behind one more deed, where the line is neither removed nor paid."""
-    line = standing.line
-    found = [repriced(standing, price) for price in places((line.kept, line.shown))]
-    found.extend([moved(standing, book.rule(deed[0]), deed) for deed in DEEDS])
-    found.append(moved(standing, pay_rule(book, standing), FAILED))
-    return found
-
-
-def with_small_amounts(start, deeds):
-    """The history with this first price and these deeds, told with the smallest amounts in the same order."""
-    amounts = in_order([start] + [deed[2] for deed in deeds if deed[0] == "price"])
-    small = [("price", ITEM, amounts.index(deed[2]) + 1) if deed[0] == "price" else deed for deed in deeds]
-    return ((ITEM, amounts.index(start) + 1),), small
-
-
-def first_fault(book):
-    """None if the book is right, otherwise prices and as few deeds as can have a fault."""
-    first = begun(book)
-    seen = set()
-    seen.add(key(first))
-    level = [first]
-    while level:
-        behind = []
-        for standing in level:
-            if pays_wrong(book, standing):
-                return with_small_amounts(first.price, [*standing.deeds, PAID])
-            for follower in followers(book, standing):
-                place = key(follower)
-                if place not in seen:
-                    seen.add(place)
-                    behind.append(follower)
-        level = behind
-    return None
+    The shop's price can change ahead of each deed, so that what the line holds is all that matters. If no payment at
+    the door "pay" can be a fault, the line keeps the price last shown behind each that failed.
+    """
+    *others, pay, again = effects
+    reached = [first_holding(effects[0].actions)]
+    if AS_SHOWN not in reached:
+        reached.append(AS_SHOWN)
+    at = 0
+    while at < len(reached):
+        here = reached[at]
+        if pay.behind(here) != [AS_SHOWN]:
+            return False
+        for effect in others:
+            reached.extend([there for there in effect.behind(here) if there not in reached])
+        at += 1
+    return again.behind(AS_SHOWN) == [AS_SHOWN]
 
 
 def is_right(book):
     """Whether no history has a fault."""
-    return first_fault(book) is None
+    return are_right([Effect(rule) for rule in book.rules()])
 
 
-def without(book, door, index):
-    """The book without one action."""
-    rule = book.rule(door)
-    return book.with_rule(door, rule[:index] + rule[index + 1:])
+def pay_door(standing):
+    """The door of a payment at a standing."""
+    return "again" if standing[-1] else "pay"
+
+
+class FaultSearch:
+    """The search for a fault of a book. A standing is (price, kept, shown, whether the last payment failed)."""
+
+    def __init__(self, book):
+        self.by_door = dict(zip(DOORS, book.rules()))
+
+    def held(self, door, standing):
+        """The price kept and the one last shown behind the rule of a door."""
+        price, kept, shown, _ = standing
+        kept, shown, _, _ = carried_out(self.by_door[door], price, kept, shown)
+        return kept, shown
+
+    def behind(self, door, standing, failed):
+        """The standing behind the rule of a door."""
+        spot, held = settled(standing[0], self.held(door, standing))
+        return (spot, *held, failed)
+
+    def left(self, standing):
+        """Only the payment is needed if it is a fault now."""
+        kept, shown = self.held(pay_door(standing), standing)
+        return 2 if kept == shown else 1
+
+    def moves(self, standing, last):
+        """The deeds that can follow, each with the standing behind it."""
+        if standing == UNBEGUN:
+            return [(PUT, self.behind("put", BEGUN, False))]
+        if self.left(standing) == 1:
+            return [(PAID, END)]
+        found = [(deed, self.behind(deed[0], standing, False)) for deed in DEEDS]
+        found.append((FAILED, self.behind(pay_door(standing), standing, True)))
+        # A second new price at once would only do what another first one does.
+        if last[0] != "price":
+            _, *held = standing
+            found.extend([(("price", ITEM, spot), (spot, *held)) for spot in spots(standing[1:3])])
+        return found
+
+
+def first_fault(book):
+    """None if the book is right, otherwise prices and as few deeds as can have a fault."""
+    if is_right(book):
+        return None
+    return told([book], fewest(FaultSearch(book), UNBEGUN))
 
 
 def needless(book):
     """The actions (door, index) without which, each alone, the book is right."""
-    if not is_right(book):
+    effects = [Effect(rule) for rule in book.rules()]
+    if not are_right(effects):
         raise NotRight("the book is not right")
-    actions = [(door, index) for door in DOORS for index in range(len(book.rule(door)))]
-    return [(door, index) for door, index in actions if is_right(without(book, door, index))]
+    found = []
+    for at, door in enumerate(DOORS):
+        rule = book.rule(door)
+        for index in range(len(rule)):
+            less = Effect(rule[:index] + rule[index + 1:])
+            if are_right([*effects[:at], less, *effects[at + 1:]]):
+                found.append((door, index))
+    return found
 
 
 def few_doors():

@@ -1,6 +1,4 @@
-"""The document written down a second time, as plainly as possible, and searches that try every history."""
-
-from itertools import product
+"""The document written down a second time, as plainly as possible, and random books and histories."""
 
 ACTIONS = ("take", "least", "last", "show", "ask")
 DOORS = ("put", "look", "alter", "back", "pay", "again")
@@ -122,75 +120,3 @@ def random_history(random, items, amounts, many):
         elif kind != "alter":
             deeds.append((kind,))
     return prices, deeds
-
-
-def ruled(rule, price, kept, shown):
-    """What a line keeps and what was last shown of it behind a rule."""
-    for action in rule:
-        if action == "take" or action == "least" and price < kept:
-            kept = price
-        if action == "last" and shown is not None:
-            kept = shown
-        if action in ("show", "ask"):
-            shown = kept
-    return kept, shown
-
-
-def all_deeds(items, amounts):
-    """The deeds that can lead to a fault; larger numbers change nothing about it."""
-    deeds = [("look",), ("back",), ("pay", False), ("pay", True)]
-    for item in items:
-        deeds += [("price", item, amount) for amount in amounts]
-        deeds += [("put", item, 1), ("alter", item, 1), ("alter", item, 0)]
-    return deeds
-
-
-def behind(rules, state, deed):
-    """The state behind a deed and whether it has a fault; None if it cannot be played."""
-    prices, lines, failed = state
-    prices, lines = dict(prices), dict(lines)
-    if deed[0] == "price":
-        prices[deed[1]] = deed[2]
-        return (tuple(prices.items()), tuple(lines.items()), failed), False
-    touched = list(lines)
-    if deed[0] in ("put", "alter"):
-        touched = [deed[1]]
-        if deed[0] == "put":
-            lines.setdefault(deed[1], (prices[deed[1]], None))
-        if deed[1] not in lines:
-            return None
-        if deed[2] == 0:
-            touched = []
-            del lines[deed[1]]
-    rule = rules["again" if deed[0] == "pay" and failed else deed[0]]
-    for item in touched:
-        lines[item] = ruled(rule, prices[item], *lines[item])
-    wrong = False
-    if deed == ("pay", True):
-        wrong = any(kept != shown for kept, shown in lines.values())
-        lines = {}
-    return (tuple(prices.items()), tuple(lines.items()), deed == ("pay", False)), wrong
-
-
-def fewest_deeds(book, items, amounts):
-    """How few deeds can have a fault with these items and amounts; None if no number of deeds can."""
-    rules = dict(zip(DOORS, book.rules()))
-    deeds = all_deeds(items, amounts)
-    level = [(tuple(zip(items, choice)), (), False) for choice in product(amounts, repeat=len(items))]
-    seen = set(level)
-    count = 0
-    while level:
-        count += 1
-        further = []
-        for state in level:
-            for deed in deeds:
-                found = behind(rules, state, deed)
-                if found is None:
-                    continue
-                if found[1]:
-                    return count
-                if found[0] not in seen:
-                    seen.add(found[0])
-                    further.append(found[0])
-        level = further
-    return None

@@ -2,6 +2,8 @@
 
 import ast
 import builtins
+import importlib
+import inspect
 import pathlib
 import unittest
 
@@ -12,6 +14,10 @@ BUILTINS = (
     "ValueError TypeError KeyError IndexError LookupError StopIteration NotImplemented"
 ).split()
 NOT_ALLOWED = (ast.AsyncFunctionDef, ast.AsyncFor, ast.AsyncWith, ast.Await, ast.Div, ast.Import)
+BARRED = (
+    "mro elements open input law version_info with_traceback add_note register attrgetter breakpoint builtins compile dir "
+    "eval exec exit gc globals help id importlib license locals methodcaller os quit setattr super type vars sys"
+).split()
 EAGER = ("any", "all", "min", "max", "sum", "sorted")
 
 
@@ -51,6 +57,51 @@ class TestLanguage(unittest.TestCase):
             if isinstance(node, ast.Name) and node.id in dir(builtins):
                 self.assertIn(node.id, BUILTINS, name)
 
+    def test_names(self):
+        for path in files():
+            tree = ast.parse(path.read_text())
+            taken = {part.name for node in tree.body if isinstance(node, ast.ImportFrom) for part in node.names}
+            taken |= {node.name for node in tree.body if isinstance(node, ast.ClassDef)}
+            bound = [node.name for node in tree.body if isinstance(node, (ast.FunctionDef, ast.ClassDef))]
+            bound += [part.name for node in tree.body if isinstance(node, ast.ImportFrom) for part in node.names]
+            bound += [node.targets[0].id for node in tree.body if isinstance(node, ast.Assign)]
+            self.assertEqual(len(bound), len(set(bound)), path.name)
+            assigned = {node.id for node in ast.walk(tree) if isinstance(node, ast.Name) and isinstance(node.ctx, ast.Store)}
+            assigned |= {node.arg for node in ast.walk(tree) if isinstance(node, ast.arg)}
+            self.assertFalse(assigned & taken, path.name)
+            self.assertFalse((assigned | set(bound)) & (set(dir(builtins)) | set(BARRED)), path.name)
+
+    def test_methods_and_attributes(self):
+        methods, stored = set(), set()
+        for _, node in self.nodes():
+            if isinstance(node, ast.ClassDef):
+                methods |= {part.name for part in node.body if isinstance(part, ast.FunctionDef)}
+            if isinstance(node, ast.Attribute) and isinstance(node.ctx, ast.Store):
+                stored.add(node.attr)
+            if isinstance(node, ast.FunctionDef) and node.name.startswith("__"):
+                self.assertIn(node.name, ("__init__", "__eq__", "__len__", "__contains__"))
+            if isinstance(node, ast.FunctionDef):
+                decorators = [ast.unparse(part) for part in node.decorator_list]
+                self.assertIn(decorators, ([], ["property"], ["book.setter"]))
+        self.assertFalse(methods & stored)
+        for name in methods | stored:
+            self.assertFalse([kind for kind in (str, int, list, dict, set, bytes, tuple) if hasattr(kind, name)]
+                             and not name.startswith("__") and name != "index", name)
+
+    def test_no_file_imports_itself_by_others(self):
+        imports = {}
+        for name, node in self.nodes():
+            if isinstance(node, ast.ImportFrom) and node.module.startswith("lastshown."):
+                imports.setdefault(name[:-3], set()).add(node.module.partition(".")[2])
+        for name in imports:
+            seen, behind = set(), [name]
+            while behind:
+                for other in imports.get(behind.pop(), ()):
+                    self.assertNotEqual(other, name)
+                    if other not in seen:
+                        seen.add(other)
+                        behind.append(other)
+
     def test_no_generator_expression_where_a_class_has_an_eq(self):
         for name, node in self.nodes():
             if isinstance(node, ast.Call) and isinstance(node.func, ast.Name) and node.func.id in EAGER:
@@ -71,6 +122,20 @@ class TestInterface(unittest.TestCase):
     names = {
         "errors": "ShownError NoPrices NoDoors NotRight NothingToUndo NoRule NoDoor NoDeed NoItem NoLine Missing NoText",
         "books": "Book", "plays": "play faults mixtures", "right": "first_fault is_right needless fewest_asks",
+        "mixing": "first_mixture is_plain", "alike": "told_apart", "shops": "Shop",
+        "texts": "book_text read_book history_text read_history",
+    }
+    arguments = {
+        "books": {"Book": "put look alter back pay again", "Book.rule": "door", "Book.rules": "",
+                  "Book.with_rule": "door rule", "Book.asking": "doors", "Book.__eq__": "other"},
+        "plays": {"play": "book prices deeds", "faults": "book prices deeds", "mixtures": "book prices deeds"},
+        "right": {"first_fault": "book", "is_right": "book", "needless": "book", "fewest_asks": "book"},
+        "mixing": {"first_mixture": "book", "is_plain": "book"},
+        "alike": {"told_apart": "book other"},
+        "shops": {"Shop": "book prices", "Shop.do": "deed", "Shop.do_all": "deeds", "Shop.undo": "",
+                  "Shop.change": "book", "Shop.price": "item", "Shop.lines": "", "Shop.paid": "", "Shop.__len__": "",
+                  "Shop.__contains__": "item"},
+        "texts": {"book_text": "book", "read_book": "text", "history_text": "prices deeds", "read_history": "text"},
     }
 
     def test_each_name_is_defined_in_its_file(self):
@@ -79,6 +144,15 @@ class TestInterface(unittest.TestCase):
             defined = [node.name for node in body if isinstance(node, (ast.FunctionDef, ast.ClassDef))]
             for name in names.split():
                 self.assertIn(name, defined)
+
+    def test_arguments_have_the_names_of_the_interface(self):
+        for module, functions in self.arguments.items():
+            found = importlib.import_module(f"lastshown.{module}")
+            for name, arguments in functions.items():
+                owner, _, method = name.partition(".")
+                call = vars(getattr(found, owner))[method] if method else getattr(found, owner)
+                names = [each for each in inspect.signature(call).parameters if each != "self"]
+                self.assertEqual(names, arguments.split(), name)
 
 
 if __name__ == "__main__":

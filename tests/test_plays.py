@@ -8,7 +8,7 @@ from lastshown.books import Book
 from lastshown.errors import NoDeed, NoItem, NoLine, NoPrices
 from lastshown.plays import faults, mixtures, play
 from tests.oracle import DOORS, Told, random_book, random_history
-from tests.strange import STRANGE
+from tests.strange import BAD_DEEDS, BAD_PRICES, STRANGE
 
 TEA = (("tea", 4),)
 BOTH = (("tea", 4), ("milk", 7))
@@ -211,28 +211,6 @@ class TestActions(unittest.TestCase):
 
 
 class TestErrors(unittest.TestCase):
-    bad_prices = (
-        *STRANGE, [], (), [("tea", 4)], (("tea", 4), ["milk", 7]), (["tea", 4],), (("tea",),), (("tea", 4, 4),),
-        ("tea", 4), (("tea", 4), ("tea", 4)), (("tea", 4), ("milk", 7), ("tea", 5)), {"tea": 4}, ("ab",),
-        tuple((item, 1) for item in "abcdefg"), (("tea", -1),), (("tea", MOST + 1),), (("tea", True),),
-        (("tea", False),), (("tea", 4.0),), (("tea", "4"),), (("tea", None),), (("", 4),), (("Tea", 4),),
-        (("te a", 4),), (("tea1", 4),), (("tea\n", 4),), (("abcdefghi", 4),), (("t\u00e9", 4),), (("\u00df", 4),),
-        ((b"tea", 4),), ((None, 4),), (([], 4),), ((4, "tea"),), (("tea", 4), None),
-    )
-    bad_deeds = (
-        *STRANGE, (), "look", "pay", ["look"], ["put", "tea", 1], ("look", None), ("look", "tea"), ("back", 1),
-        ("back", "tea", 1), ("Look",), ("again",), ("ask",), ("fail",), ("pay",), ("pay", 1), ("pay", 0), ("pay", None),
-        ("pay", "True"), ("pay", True, True), ("pay", "tea", True), ("put",), ("put", "tea"), ("put", "tea", 0),
-        ("put", "tea", -1), ("put", "tea", 1001), ("put", "tea", True), ("put", "tea", 1.0), ("put", "tea", "1"),
-        ("put", "tea", 1, 1), ("put", "TEA", 1), ("put", "", 1), ("put", "abcdefghi", 1), ("put", None, 1),
-        ("put", ["tea"], 1), ("put", 1, "tea"), ("alter", "tea"), ("alter", "tea", -1), ("alter", "tea", 1001),
-        ("alter", "tea", False), ("alter", "tea", True), ("alter", "tea", None), ("alter", "t ea", 1),
-        ("price", "tea"), ("price", "tea", -1), ("price", "tea", MOST + 1), ("price", "tea", True),
-        ("price", "tea", False), ("price", "tea", 4.0), ("price", "tea", None), ("price", "t\u00e9", 1),
-        ("price", "tea", 4, 4), ("price", 4), ("buy", "tea", 1), (None, "tea", 1), (["put"], "tea", 1), (b"look",),
-        (True,), ("put", "tea", [1]), ("put", ("tea",), 1), (("look",),), {"look": 1},
-    )
-
     def caught(self, error, prices, deeds):
         told = []
         for function in (play, faults, mixtures):
@@ -248,7 +226,7 @@ class TestErrors(unittest.TestCase):
             self.assertIs(type(one.index), int)
 
     def test_no_prices(self):
-        for bad in self.bad_prices:
+        for bad in BAD_PRICES:
             self.caught(NoPrices, bad, [])
 
     def test_good_prices(self):
@@ -256,7 +234,7 @@ class TestErrors(unittest.TestCase):
             self.assertEqual(play(Book(), good, [("look",)]), [([], [], None)])
 
     def test_no_deed(self):
-        for bad in self.bad_deeds:
+        for bad in BAD_DEEDS:
             self.check_index(NoDeed, 0, [bad])
             self.check_index(NoDeed, 2, [("put", "tea", 1), ("look",), bad, bad, ("look",)])
 

@@ -3,12 +3,15 @@
 import random
 import unittest
 from itertools import combinations, product
+from unittest import mock
 
 from lastshown.books import Book
 from lastshown.errors import NoRule, NotRight
 from lastshown.plays import faults
 from lastshown.right import few_doors, first_fault, fewest_asks, is_right, needless
-from tests.oracle import ACTIONS, DOORS, Told, all_deeds, fewest_deeds, random_book, random_history
+from lastshown.rules import carried_out
+from tests.brute import all_deeds, fewest_to_fault
+from tests.oracle import ACTIONS, DOORS, Told, random_book, random_history
 
 MOST = 10 ** 12
 AMOUNTS = (1, 2, 3, 4, 5)
@@ -50,10 +53,15 @@ def books(seed, many):
         yield (quiet_book(choose), random_book(choose, Book, 2), random_book(choose, Book, 6))[at % 3]
 
 
+def fewest_deeds(book, items, amounts):
+    """How few deeds have a fault if each item can have each amount."""
+    return fewest_to_fault(book, {item: tuple(amounts) for item in items})
+
+
 def histories(items, amounts, many):
     """All histories of so many deeds that end with a payment that is done; some cannot be played."""
     for choice in product(amounts, repeat=len(items)):
-        for deeds in product(all_deeds(items, amounts), repeat=many - 1):
+        for deeds in product(all_deeds({item: amounts for item in items}), repeat=many - 1):
             yield tuple(zip(items, choice)), [*deeds, ("pay", True)]
 
 
@@ -202,6 +210,28 @@ class TestNeedless(unittest.TestCase):
     def test_six_actions(self):
         book = Book(put=("show",) * 6)
         self.assertEqual(needless(book), [("put", index) for index in range(6)])
+
+    def test_a_book_of_36_actions(self):
+        book = Book(
+            ("take", "take", "take", "least", "least", "least"), ("take", "show", "show", "last", "take", "show"),
+            ("show", "last", "ask", "show", "last", "show"), ("show", "take", "least", "least", "least", "take"),
+            ("last", "show", "show", "least", "ask", "ask"), ("take", "last", "least", "last", "least", "show"))
+        every = [(door, index) for door in DOORS for index in range(6)]
+        with mock.patch("lastshown.right.carried_out", wraps=carried_out) as work:
+            self.assertEqual(needless(book), every[:-1])
+        # A line stands in 16 ways at most: no rule, whole or without an action, is carried out more often.
+        self.assertLess(work.call_count, 17 * (6 + 36))
+
+    def test_is_right_and_first_fault_without_each_action(self):
+        choose = random.Random(12)
+        for _ in range(12):
+            book = random_book(choose, Book, 6)
+            for door in DOORS:
+                for index in range(len(book.rule(door))):
+                    less = book.with_rule(door, book.rule(door)[:index] + book.rule(door)[index + 1:])
+                    told = first_fault(less)
+                    self.assertEqual(is_right(less), told is None)
+                    self.assertEqual(told and len(told[1]), fewest_deeds(less, ("a",), (1, 2, 3)))
 
     def test_many_books(self):
         found = [book for book in books(10, 200) if is_right(book)]
