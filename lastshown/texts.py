@@ -35,7 +35,8 @@ def read_book(text):
             raise NoText(index)
     if len(lines) < len(DOORS):
         raise NoText(len(lines))
-    return Book(*[tuple(line.split(" ")[1:]) for line in lines])
+    rules = [tuple(line.split(" ")[1:]) for line in lines]
+    return Book(*rules)
 
 
 def deed_line(deed):

@@ -19,6 +19,28 @@ BARRED = (
     "eval exec exit gc globals help id importlib license locals methodcaller os quit setattr super type vars sys"
 ).split()
 EAGER = ("any", "all", "min", "max", "sum", "sorted")
+PROPERTIES = ("total", "asked", "book")
+
+
+def can_be_starred(node):
+    """Whether L7 lets this value stand behind the star of a call."""
+    if isinstance(node, ast.Attribute):
+        return isinstance(node.value, ast.Name) and node.attr not in PROPERTIES
+    if isinstance(node, (ast.List, ast.Tuple)):
+        return all(can_be_starred(part) for part in node.elts)
+    if isinstance(node, ast.Dict):
+        return all(can_be_starred(part) for part in [*node.keys, *node.values])
+    return isinstance(node, (ast.Name, ast.Constant))
+
+
+def has_plain_stars(call):
+    """Whether the stars of a call are as L7 asks."""
+    if any(key.arg is None for key in call.keywords):
+        named = isinstance(call.keywords[0].value, (ast.Name, ast.Attribute))
+        values = [part.value if isinstance(part, ast.Starred) else part for part in call.args]
+        plain = all(can_be_starred(part) for part in [call.keywords[0].value, *values])
+        return len(call.keywords) == 1 and named and plain
+    return all(can_be_starred(part.value) for part in call.args if isinstance(part, ast.Starred))
 
 
 def files():
@@ -106,6 +128,21 @@ class TestLanguage(unittest.TestCase):
         for name, node in self.nodes():
             if isinstance(node, ast.Call) and isinstance(node.func, ast.Name) and node.func.id in EAGER:
                 self.assertFalse([part for part in node.args if isinstance(part, ast.GeneratorExp)], name)
+
+    def test_stars_of_calls_stand_before_plain_values(self):
+        for name, node in self.nodes():
+            if isinstance(node, ast.Call):
+                self.assertTrue(has_plain_stars(node), f"{name} {node.lineno}")
+
+    def test_which_stars_of_calls_are_plain(self):
+        for text in ("f(*xs)", "f(g(k), *xs)", "f(*box.rows, n, sep=g(n))", "f(*(1, k))", "f(*[xs, (box.n,)])",
+                     "f(*{k: 1})", "f(**d)", "f(k, *xs, **box.d)", "f([*g(k)])", "f(k)"):
+            self.assertTrue(has_plain_stars(ast.parse(text, mode="eval").body), text)
+        for text in ("f(*[g(x) for x in xs])", "f(*(x for x in xs))", "f(*g(k))", "f(*xs[1:])", "f(*xs[0])",
+                     "f(*xs, *g(k))", "f(*(xs + ys))", "f(*box.book)", "f(*box.inner.rows)", "f(*[g(k)])", "f(*[*xs])",
+                     "f(*{**d})", "f(**g(k))", "f(**{'k': 1})", "f(g(k), **d)", "f(*g(k), **d)", "f(**d, **e)",
+                     "f(n=1, **d)", "f(*xs if k else ys)"):
+            self.assertFalse(has_plain_stars(ast.parse(text, mode="eval").body), text)
 
     def test_module_level_holds_definitions_alone(self):
         for path in files():
